@@ -1,0 +1,1 @@
+"""Kinrows: a yard of program files whose rows were copied, and whose copy is whose."""
