@@ -90,4 +90,9 @@ def is_name(thing):
 
 def is_free(thing):
     """Whether it is a name that is not kept."""
-    return is_name(thing) and thing not in KEPT
+    return is_word(thing) and is_free_word(thing)
+
+
+def is_free_word(word):
+    """Whether a word is a free name; asked of words alone, which need not be taken apart again."""
+    return begins_name(word[0]) and word not in KEPT

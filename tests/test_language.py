@@ -19,6 +19,9 @@ BARRED_WORDS = """type typing typing_extensions enum Enum IntEnum StrEnum Flag I
 namedtuple NamedTuple TypedDict TYPE_CHECKING abstractmethod""".split()
 BARRED_PARTS = ("dataclass", "overload", "contextmanager")
 METHODS = "__init__ __eq__ __repr__ __str__ __len__ __enter__ __exit__ __call__ __iter__".split()
+LISTED_METHODS = """append clear copy count endswith extend find get index insert isalnum isalpha isdigit islower isspace
+isupper items join keys ljust lower lstrip partition pop remove replace reverse rfind rjust rpartition rsplit rstrip
+setdefault split splitlines startswith strip update upper values zfill bit_length add discard sort""".split()
 BARRED_NODES = (ast.Div, ast.Global, ast.AsyncFunctionDef, ast.AsyncFor, ast.AsyncWith, ast.Await, ast.Import)
 
 
@@ -40,6 +43,29 @@ def bound_names(tree):
     found += [node.arg for node in ast.walk(tree) if isinstance(node, ast.arg)]
     return found + [node.id for node in ast.walk(tree) if isinstance(node, ast.Name)
                     and isinstance(node.ctx, ast.Store)]
+
+
+def local_names(tree):
+    """The parameters and variables of a file's functions."""
+    found = []
+    for node in ast.walk(tree):
+        if isinstance(node, (ast.FunctionDef, ast.Lambda)):
+            found += [inner.arg for inner in ast.walk(node) if isinstance(inner, ast.arg)]
+            found += [inner.id for inner in ast.walk(node) if isinstance(inner, ast.Name)
+                      and isinstance(inner.ctx, ast.Store)]
+    return found
+
+
+def imports(tree):
+    """The pairs (file, name) of what a file imports."""
+    return [(node.module.split(".")[-1], name.name) for node in tree.body if isinstance(node, ast.ImportFrom)
+            for name in node.names]
+
+
+def defined(tree):
+    """The names that a file itself gives a meaning at module level, each as often as it does."""
+    found = [node.name for node in tree.body if isinstance(node, (ast.FunctionDef, ast.ClassDef))]
+    return found + [name.id for node in tree.body if isinstance(node, ast.Assign) for name in node.targets]
 
 
 class FilesTest(unittest.TestCase):
@@ -73,6 +99,32 @@ class CodeTest(unittest.TestCase):
             self.assertRegex(node.module, r"\Akinrows\.[a-z0-9_]+\Z", path.name)
             self.assertEqual(node.level, 0)
             self.assertNotIn("*", [name.name for name in node.names])
+
+    def test_imports_name_the_file_that_defines(self):
+        names = {path.stem: defined(tree) for path, tree in trees()}
+        for path, tree in trees():
+            for file, name in imports(tree):
+                self.assertIn(name, names[file], path.name)
+
+    def test_imports_go_in_no_circle(self):
+        needs = {path.stem: {file for file, name in imports(tree)} for path, tree in trees()}
+        while needs:
+            ready = [file for file in needs if not needs[file] & set(needs)]
+            self.assertTrue(ready, needs)
+            for file in ready:
+                del needs[file]
+
+    def test_each_name_has_one_meaning_in_a_file(self):
+        for path, tree in trees():
+            names = defined(tree) + [name for file, name in imports(tree)]
+            self.assertEqual(sorted(names), sorted(set(names)), path.name)
+            self.assertEqual([name for name in local_names(tree) if name in names], [], path.name)
+
+    def test_listed_methods_alone(self):
+        own = {node.name for path, node in nodes(ast.FunctionDef)}
+        for path, node in nodes(ast.Call):
+            if isinstance(node.func, ast.Attribute):
+                self.assertIn(node.func.attr, own | set(LISTED_METHODS), path.name)
 
     def test_barred_code(self):
         self.assertEqual([(path.name, node.__class__.__name__) for path, node in nodes(BARRED_NODES)], [])
