@@ -110,3 +110,32 @@ def any_files(seed, most_rows=9):
             chance.choice(rows).append(chance.choice(words))
         files.append((title, rows[:most_rows]))
     return files
+
+
+def is_hole(item):
+    return type(item) is int
+
+
+def put_under(form, items):
+    """A form with item k at each place of its hole k."""
+    return [[items[item] if is_hole(item) else item for item in row] for row in form]
+
+
+def plain_holes(form):
+    return sorted({item for row in form for item in row if is_hole(item)})
+
+
+def numbered(rows):
+    """The rows with whatever stands for holes, all that are no texts, numbered in the order of their comings."""
+    holes = []
+    for row in rows:
+        for item in row:
+            if not isinstance(item, str) and item not in holes:
+                holes.append(item)
+    return [[item if isinstance(item, str) else holes.index(item) for item in row] for row in rows]
+
+
+def any_form(chance, shape, words, holes):
+    """A form of that shape with these words and at most so many holes."""
+    rows = [[chance.choice(words + list(range(holes))) for item in range(many)] for many in shape]
+    return numbered(rows)

@@ -19,9 +19,10 @@ BARRED_WORDS = """type typing typing_extensions enum Enum IntEnum StrEnum Flag I
 namedtuple NamedTuple TypedDict TYPE_CHECKING abstractmethod""".split()
 BARRED_PARTS = ("dataclass", "overload", "contextmanager")
 METHODS = "__init__ __eq__ __repr__ __str__ __len__ __enter__ __exit__ __call__ __iter__".split()
-LISTED_METHODS = """append clear copy count endswith extend find get index insert isalnum isalpha isdigit islower isspace
-isupper items join keys ljust lower lstrip partition pop remove replace reverse rfind rjust rpartition rsplit rstrip
-setdefault split splitlines startswith strip update upper values zfill bit_length add discard sort""".split()
+LISTED_METHODS = """append clear copy count endswith extend find get index insert isalnum isalpha isdigit
+islower isspace isupper items join keys ljust lower lstrip partition pop remove replace reverse rfind rjust
+rpartition rsplit rstrip setdefault split splitlines startswith strip update upper values zfill bit_length add
+discard sort""".split()
 BARRED_NODES = (ast.Div, ast.Global, ast.AsyncFunctionDef, ast.AsyncFor, ast.AsyncWith, ast.Await, ast.Import)
 
 
