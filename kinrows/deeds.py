@@ -48,6 +48,12 @@ def refuse_no_stretch(at, many, rows):
         raise NoPlace("there is no such stretch")
 
 
+def refuse_no_place_within(at, first, many):
+    """NoPlace of what is no place of the stretch of many rows from first on."""
+    if not is_whole(at) or not first <= at < first + many:
+        raise NoPlace("the stretch has no such place")
+
+
 def refuse_full(files):
     """Full of more files or rows than there may be."""
     sizes = [len(files[title]) for title in files]

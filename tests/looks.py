@@ -1,5 +1,6 @@
 """Plain looks at what the document says, held against the program; and stretches and files to look at."""
 
+import functools
 import random
 
 from kinrows.words import is_free, read
@@ -21,8 +22,18 @@ def same_shape(one, other):
     return [len(row) for row in one] == [len(row) for row in other]
 
 
+def frozen(stretch):
+    return tuple(tuple(row) for row in stretch)
+
+
 def are_twins(one, other):
     """[10], each two places of it."""
+    return are_frozen_twins(frozen(one), frozen(other))
+
+
+# The same stretches are looked at again and again where files change row by row.
+@functools.lru_cache(maxsize=200000)
+def are_frozen_twins(one, other):
     if not same_shape(one, other):
         return False
     free = []

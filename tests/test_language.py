@@ -127,6 +127,24 @@ class CodeTest(unittest.TestCase):
             if isinstance(node.func, ast.Attribute):
                 self.assertIn(node.func.attr, own | set(LISTED_METHODS), path.name)
 
+    def test_no_name_is_a_method_and_an_attribute(self):
+        methods = {inner.name for path, node in nodes(ast.ClassDef) for inner in node.body
+                   if isinstance(inner, ast.FunctionDef)}
+        stored = {node.attr for path, node in nodes(ast.Attribute) if isinstance(node.ctx, ast.Store)}
+        self.assertEqual(methods & stored, set())
+        for path, tree in trees():
+            called = {node.func for node in ast.walk(tree) if isinstance(node, ast.Call)}
+            for node in ast.walk(tree):
+                if isinstance(node, ast.Attribute) and node not in called:
+                    self.assertIn(node.attr, stored, path.name)
+
+    def test_methods_have_no_names_of_builtin_values(self):
+        values = {name for value in ("", 0, [], {}, set(), b"") for name in dir(value)} - set(LISTED_METHODS)
+        for path, node in nodes(ast.ClassDef):
+            names = [inner.name for inner in node.body if isinstance(inner, ast.FunctionDef)]
+            self.assertEqual(sorted(names), sorted(set(names)))
+            self.assertEqual([name for name in names if name in values and name not in METHODS], [], path.name)
+
     def test_barred_code(self):
         self.assertEqual([(path.name, node.__class__.__name__) for path, node in nodes(BARRED_NODES)], [])
 
