@@ -47,6 +47,12 @@ def refuse_bad_form(thing):
         raise BadForm("a form is a list of lists of words and of holes in order")
 
 
+def refuse_no_rows(form):
+    """NoRows of a form without rows."""
+    if not form:
+        raise NoRows("the form has no rows")
+
+
 def first_row_unlike(forms):
     """The first row that not all of them have, or that has not as many items in all of them; None of one shape."""
     for row in range(max(len(form) for form in forms)):
@@ -87,18 +93,30 @@ def form_of(stretches):
     return form_over(stretches)
 
 
+def how_many_holes(form):
+    """How many holes it has; asked of forms alone, which need not be gone through again."""
+    return len({item for row in form for item in row if is_hole(item)})
+
+
 def holes_of(form):
     """How many holes the form has; BadForm."""
     refuse_bad_form(form)
-    return len({item for row in form for item in row if is_hole(item)})
+    return how_many_holes(form)
+
+
+def filled_with(form, words):
+    """The stretch with words[k] at each place of hole k, asked of forms and lists of words alone; BadFilling."""
+    if len(words) != how_many_holes(form):
+        raise BadFilling("a form is filled with just as many words as it has holes")
+    return [[words[item] if is_hole(item) else item for item in row] for row in form]
 
 
 def filled(form, words):
     """The stretch with words[k] at each place of hole k; BadForm, then BadFilling."""
-    many = holes_of(form)
-    if not isinstance(words, list) or len(words) != many or not all(is_word(word) for word in words):
-        raise BadFilling("a form is filled with a list of just as many words as it has holes")
-    return [[words[item] if is_hole(item) else item for item in row] for row in form]
+    refuse_bad_form(form)
+    if not isinstance(words, list) or not all(is_word(word) for word in words):
+        raise BadFilling("a form is filled with a list of words")
+    return filled_with(form, words)
 
 
 def items_under(form, other):

@@ -4,12 +4,12 @@ import itertools
 import random
 import unittest
 
-from kinrows.errors import BadDay, BadRow, NoDebt, NoDeed, NoPlace, NoTitle
+from kinrows.errors import BadDay, BadRow, NoDebt, NoPlace, NoTitle
 from kinrows.mends import MendYard
 from kinrows.yards import Yard
 from tests.books import Book, everything, refusal, tried
 from tests.chances import any_deed, any_step
-from tests.test_yards import BAD_ROWS, DEEDS, NO_TITLES, NO_WHOLE, yard_of
+from tests.test_yards import BAD_ROWS, DEEDS, NO_TITLES, NO_WHOLE, SequenceCase, yard_of
 
 MENDS = ["mend", "settle", "waive"]
 
@@ -23,14 +23,7 @@ def copies():
     return mend_yard({"a": ["x = 1", "if x"], "b": ["y = 1", "if y"], "c": ["z = 1", "if z"]})
 
 
-class SequenceTest(unittest.TestCase):
-    def hold(self, yard, book, deed):
-        self.assertIs(tried(yard, deed), book.do(deed), deed)
-        told, wanted = everything(yard), book.told()
-        for question in wanted:
-            self.assertEqual(told[question], wanted[question], (question, deed, book.deeds))
-        return told["owed"]
-
+class SequenceTest(SequenceCase):
     def test_long_sequences(self):
         owed = []
         for seed in range(60):
@@ -40,25 +33,13 @@ class SequenceTest(unittest.TestCase):
             names = DEEDS + MENDS * chance.choice([1, 3, 6])
             for step in range(30):
                 deed = any_step(chance, yard, 12, names, len(book.deeds), len(book.undone))
-                owed += self.hold(yard, book, deed)
+                owed += self.hold(yard, book, deed)["owed"]
         self.assertGreater(len([row for row in owed if row[2] is None]), 100)
         self.assertGreater(len([row for row in owed if row[2] is not None]), 300)
 
     def test_all_taken_back_and_done_again(self):
         for seed in range(15):
-            chance = random.Random(seed)
-            yard, told = MendYard(1), []
-            while len(told) < 25:
-                before = everything(yard)
-                if tried(yard, any_deed(chance, yard, 12, DEEDS + MENDS * 4)) is None:
-                    told.append((before, everything(yard)))
-            for before, behind in reversed(told):
-                yard.back()
-                self.assertEqual(everything(yard), {**before, "come": behind["gone"], "gone": behind["come"]})
-            self.assertIs(tried(yard, ("back",)), NoDeed)
-            for before, behind in told:
-                yard.again()
-                self.assertEqual(everything(yard), behind)
+            self.hold_back_and_again(MendYard(1), random.Random(seed), DEEDS + MENDS * 4)
 
     def test_without_mends_it_is_a_yard(self):
         for seed in range(10):

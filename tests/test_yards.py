@@ -40,13 +40,36 @@ def numbers(yard):
     return {title: yard.numbers(title) for title in yard.titles()}
 
 
-class SequenceTest(unittest.TestCase):
+class SequenceCase(unittest.TestCase):
+    """Yards held against the plain bookkeeping."""
+
     def hold(self, yard, book, deed):
         self.assertIs(tried(yard, deed), book.do(deed), deed)
         told, wanted = everything(yard), book.told()
         for question in wanted:
             self.assertEqual(told[question], wanted[question], (question, deed, book.deeds))
+        return told
 
+    def hold_back_and_again(self, yard, chance, names):
+        """Does 25 deeds, takes all back and does all again."""
+        told = []
+        while len(told) < 25:
+            before = everything(yard)
+            if tried(yard, any_deed(chance, yard, 14, names)) is None:
+                told.append((before, everything(yard)))
+        for before, behind in reversed(told):
+            yard.back()
+            # All is as ahead of the deed, but for come and gone, which tell of the taking back.
+            self.assertEqual(everything(yard), {**before, "come": behind["gone"], "gone": behind["come"]})
+        self.assertIs(tried(yard, ("back",)), NoDeed)
+        self.assertEqual((yard.day(), yard.titles(), yard.pairs()), (0, [], []))
+        for before, behind in told:
+            yard.again()
+            self.assertEqual(everything(yard), behind)
+        self.assertIs(tried(yard, ("again",)), NoDeed)
+
+
+class SequenceTest(SequenceCase):
     def test_long_sequences(self):
         for seed in range(60):
             chance = random.Random(seed)
@@ -58,26 +81,7 @@ class SequenceTest(unittest.TestCase):
 
     def test_all_taken_back_and_done_again(self):
         for seed in range(15):
-            chance = random.Random(seed)
-            yard, told = Yard(2), []
-            while len(told) < 25:
-                before = everything(yard)
-                if tried(yard, any_deed(chance, yard, 14, DEEDS)) is None:
-                    told.append((before, everything(yard)))
-            for before, behind in reversed(told):
-                yard.back()
-                self.hold_turned(yard, before, behind)
-            self.assertIs(tried(yard, ("back",)), NoDeed)
-            self.assertEqual((yard.day(), yard.titles(), yard.pairs()), (0, [], []))
-            for before, behind in told:
-                yard.again()
-                self.assertEqual(everything(yard), behind)
-            self.assertIs(tried(yard, ("again",)), NoDeed)
-
-    def hold_turned(self, yard, before, behind):
-        """All is as ahead of the deed, but for come and gone, which tell of the taking back."""
-        wanted = {**before, "come": behind["gone"], "gone": behind["come"]}
-        self.assertEqual(everything(yard), wanted)
+            self.hold_back_and_again(Yard(2), random.Random(seed), DEEDS)
 
     def test_numbers_are_given_again_only_behind_a_taking_back(self):
         yard = Yard()
@@ -291,7 +295,8 @@ class RefusalTest(unittest.TestCase):
         for title in NO_TITLES:
             for deed in (("drop", 5, title), ("put", 5, title, -1, []), ("cut", 5, title, 9, 9),
                          ("turn", 5, title, 9, None), ("move", 5, title, 9, 9, title, 9),
-                         ("move", 5, "a", 9, 9, title, 9), ("move", 5, title, 9, 9, "a", 9), ("divide", 5, title, 9, None), ("unite", 5, title, title),
+                         ("move", 5, "a", 9, 9, title, 9), ("move", 5, title, 9, 9, "a", 9),
+                         ("divide", 5, title, 9, None), ("unite", 5, title, title),
                          ("unite", 5, "a", title), ("unite", 5, title, "a")):
                 self.hold(deed, NoTitle)
 
